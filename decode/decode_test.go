@@ -406,6 +406,41 @@ func TestLevelAtTheSameTime(t *testing.T) {
 	all.Wait()
 }
 
+// checkLevels checks that the collected levels are those of the table, with 0 for Illegal.
+func checkLevels(t *testing.T) {
+	t.Helper()
+	got := Levels()
+	if len(got) != len(table)+1 || got[api.Illegal] != 0 {
+		t.Errorf("there are %d levels, the first one is %d", len(got), got[api.Illegal])
+	}
+	for i, l := range table {
+		if got[i+1] != l.level {
+			t.Errorf("the collected level of the Op %d is %d, want %d", i+1, got[i+1], l.level)
+		}
+	}
+}
+
+// P14.3: the collected levels are those of all Ops, also for callers that ask at the same time.
+func TestLevels(t *testing.T) {
+	var all sync.WaitGroup
+	for range 8 {
+		all.Go(func() { checkLevels(t) })
+	}
+	all.Wait()
+	for op, got := range Levels() {
+		if want := Level(op); got != want {
+			t.Errorf("the collected level of the Op %d is %d, but its level is %d", op, got, want)
+		}
+	}
+}
+
+// P14.3: the collected levels are a copy.
+func TestLevelsAreCopied(t *testing.T) {
+	got := Levels()
+	clear(got[:])
+	checkLevels(t)
+}
+
 // P14.4: what is legal for a level is decoded in the same way for all higher ones.
 func TestHigherLevels(t *testing.T) {
 	for _, tail := range tails {
